@@ -1,0 +1,1 @@
+"""Slitview: texts seen through a slit."""
