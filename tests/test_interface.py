@@ -11,6 +11,15 @@ ARGUMENTS = {
         "texts": ["view"], "how_many": ["view"], "rings": ["view"], "first": ["view"], "twins": ["text", "width"],
         "least_width": ["text"],
     },
+    "slitview.bars": {"balance": ["view"], "bar": ["view"], "is_bar": ["view", "thing"]},
+    "slitview.slits": {"Slit": ["width"]},
+    "slitview.blurring": {
+        "clears": ["blurred", "view"], "cleared": ["blurred"], "through": ["blurred"], "seen": ["blurred"],
+    },
+}
+
+METHODS = {
+    ("slitview.slits", "Slit"): {"windows": [], "come": ["window"], "told": [], "fitting": [], "undo": []},
 }
 
 
@@ -21,6 +30,13 @@ class Interface(unittest.TestCase):
                 with self.subTest(module=module, name=name):
                     found = getattr(importlib.import_module(module), name)
                     self.assertEqual(list(inspect.signature(found).parameters), arguments)
+
+    def test_methods_and_arguments(self):
+        for (module, name), methods in METHODS.items():
+            for method, arguments in methods.items():
+                with self.subTest(module=module, name=name, method=method):
+                    found = getattr(getattr(importlib.import_module(module), name), method)
+                    self.assertEqual(list(inspect.signature(found).parameters), ["self"] + arguments)
 
 
 if __name__ == "__main__":

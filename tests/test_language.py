@@ -28,6 +28,9 @@ with_traceback add_note""".split())
 DUNDERS = set("__init__ __eq__ __repr__ __str__ __len__".split())
 BARRED_FILES = set("test tests testing site conftest sitecustomize usercustomize".split()) | WORDS | set(dir(builtins))
 
+FREE_VALUES = set("count index title find get join lower upper split strip copy add".split())
+NAMES_OF_PYTHONS_VALUES = {name for value in ("", 0, [], {}, set(), b"", ()) for name in dir(value)} | {"args"}
+
 
 def files():
     return [path for path in sorted(PACKAGE.iterdir()) if path.name != "__pycache__"]
@@ -167,6 +170,17 @@ def faults_of_top(tree, defined):
             yield getattr(node, "lineno", 0), fault
 
 
+def methods_and_values(tree):
+    """The names of all methods, and of all values that objects are given."""
+    methods, values = set(), set()
+    for node in ast.walk(tree):
+        if isinstance(node, ast.ClassDef):
+            methods |= {inner.name for inner in node.body if isinstance(inner, ast.FunctionDef)}
+        elif isinstance(node, ast.Attribute) and isinstance(node.ctx, ast.Store):
+            values.add(node.attr)
+    return methods, values
+
+
 class Language(unittest.TestCase):
     def setUp(self):
         self.texts = {"slitview." + path.stem: path.read_text("utf-8") for path in files() if path.suffix == ".py"}
@@ -188,6 +202,17 @@ class Language(unittest.TestCase):
             faults += faults_of_top(tree, self.defined)
             faults += faults_of_names(tree, methods)
             self.assertEqual(faults, [], module)
+
+    def test_methods_and_values_of_objects(self):
+        methods, values = set(), set()
+        for tree in self.trees.values():
+            methods_here, values_here = methods_and_values(tree)
+            methods |= methods_here
+            values |= values_here
+        self.assertEqual(methods & values, set(), "L18 a method in one class and a value in another")
+        self.assertEqual((methods - DUNDERS - METHODS - {"add", "discard"}) & NAMES_OF_PYTHONS_VALUES, set(), "L26 methods")
+        self.assertEqual((values - FREE_VALUES) & NAMES_OF_PYTHONS_VALUES, set(), "L26 values")
+        self.assertEqual(values & WORDS, set(), "L17 values")
 
     def test_no_file_draws_from_itself(self):
         draws = {}
