@@ -5,6 +5,7 @@ from slitview.errors import NoText, NoView, NoWidth, NoWindow
 LETTERS = "abc"
 POINT = "."
 MOST_LETTERS = 12
+MOST_LETTERS_AROUND = 60
 MOST_WINDOWS = 9
 MOST_POINTS = 6
 WIDEST = 4
@@ -19,8 +20,8 @@ def is_whole_number(thing):
     return isinstance(thing, int) and not isinstance(thing, bool)
 
 
-def is_text(thing):
-    return isinstance(thing, str) and 1 <= len(thing) <= MOST_LETTERS and has_only(thing, LETTERS)
+def is_text_up_to(thing, most):
+    return isinstance(thing, str) and 1 <= len(thing) <= most and has_only(thing, LETTERS)
 
 
 def is_width(thing):
@@ -58,8 +59,13 @@ def is_blurred_view(thing):
 
 
 def check_text(thing):
-    if not is_text(thing):
+    if not is_text_up_to(thing, MOST_LETTERS):
         raise NoText("a text has 1 to 12 letters a, b, c")
+
+
+def check_text_around(thing):
+    if not is_text_up_to(thing, MOST_LETTERS_AROUND):
+        raise NoText("a text that has a view within it has 1 to 60 letters a, b, c")
 
 
 def check_width(thing):

@@ -105,6 +105,42 @@ def plain_clearing(blurred):
     return sorted(found)
 
 
+def plain_within(text, view):
+    """Takes each of the view's windows out of those of the text."""
+    left = list(plain_view(text, view[0])[1])
+    for window in view[1]:
+        if window not in left:
+            return False
+        left.remove(window)
+    return True
+
+
+def plain_text(windows):
+    """The text whose windows these are, in this order; None, where they don't go on from one another."""
+    for one, other in zip(windows, windows[1:]):
+        if one[1:] != other[:-1]:
+            return None
+    return windows[0] + "".join(window[-1] for window in windows[1:])
+
+
+def windows_in_order(text, width):
+    return [text[place:place + width] for place in range(len(text) - width + 1)]
+
+
+def plain_steps_off(text, width):
+    """All texts that come of one exchange or turn, by windows instead of letters: the row's pieces lie between them."""
+    windows = windows_in_order(text, width)
+    row = [window[:-1] for window in windows] + [windows[-1][1:]]
+    found = set()
+    for i, j, k, l in product(range(len(row)), repeat=4):
+        if i < j <= k < l and row[i] == row[k] and row[j] == row[l]:
+            found.add(plain_text(windows[:i] + windows[k:l] + windows[j:k] + windows[i:j] + windows[l:]))
+    if row[0] == row[-1]:
+        for place in range(1, len(windows)):
+            found.add(plain_text(windows[place:] + windows[:place]))
+    return sorted(found - {text})
+
+
 class Sullen:
     """A thing that answers nothing that it is asked."""
 

@@ -16,6 +16,12 @@ ARGUMENTS = {
     "slitview.blurring": {
         "clears": ["blurred", "view"], "cleared": ["blurred"], "through": ["blurred"], "seen": ["blurred"],
     },
+    "slitview.shortest": {"shortest": ["view"], "lacking": ["view"], "within": ["text", "view"]},
+    "slitview.exchanging": {
+        "exchanged": ["text", "width"], "farthest": ["text", "width"], "road": ["one", "other", "width"],
+        "steps": ["one", "other", "width"],
+    },
+    "slitview.widths": {"narrower": ["view"], "wider": ["view"], "by_all": ["views"]},
 }
 
 METHODS = {
