@@ -22,10 +22,17 @@ ARGUMENTS = {
         "steps": ["one", "other", "width"],
     },
     "slitview.widths": {"narrower": ["view"], "wider": ["view"], "by_all": ["views"]},
+    "slitview.together": {"pairs": ["view"], "fewest_texts": ["view"], "bundle": ["view"], "sure": ["view"]},
+    "slitview.seeking": {"Seeker": ["view"]},
+    "slitview.changing": {"mirrored": ["view"], "renamed": ["view", "letters"]},
+    "slitview.writing": {"written": ["view"], "read": ["text"], "slit_text": ["slit"], "slit_of": ["text"]},
 }
 
 METHODS = {
     ("slitview.slits", "Slit"): {"windows": [], "come": ["window"], "told": [], "fitting": [], "undo": []},
+    ("slitview.seeking", "Seeker"): {
+        "left": [], "needed": [], "best": [], "hear": ["place", "letter"], "heard": [], "undo": [],
+    },
 }
 
 

@@ -170,6 +170,48 @@ def faults_of_top(tree, defined):
             yield getattr(node, "lineno", 0), fault
 
 
+def with_parents(tree):
+    return {inner: node for node in ast.walk(tree) for inner in ast.iter_child_nodes(node)}
+
+
+def called_name(node):
+    return node.func.id if isinstance(node, ast.Call) and isinstance(node.func, ast.Name) else None
+
+
+def is_asked_on_the_spot(node, parents):
+    """Whether a set is asked with `in` or compared, sorted or counted right where it is made."""
+    above = parents[node]
+    while isinstance(above, ast.BinOp) and isinstance(above.op, (ast.Sub, ast.BitAnd, ast.BitOr, ast.BitXor)):
+        node, above = above, parents[above]
+    if called_name(above) in ("sorted", "len"):
+        return not above.keywords
+    if isinstance(above, ast.Compare):
+        return all(isinstance(op, (ast.In, ast.NotIn, ast.Eq, ast.NotEq)) for op in above.ops)
+    return False
+
+
+def is_walked_on_the_spot(node, parents):
+    above = parents[node]
+    if isinstance(above, (ast.For, ast.comprehension)):
+        return above.iter is node
+    if isinstance(above, ast.Call) and isinstance(above.func, ast.Attribute):
+        return above.func.attr == "join"
+    walkers = "list tuple dict sorted sum any all enumerate zip min max".split()
+    return called_name(above) in walkers and (above.args[0] is node or called_name(above) == "zip")
+
+
+def faults_of_walks(tree):
+    parents = with_parents(tree)
+    for node in ast.walk(tree):
+        if isinstance(node, ast.Set) or called_name(node) in ("set", "frozenset"):
+            if not is_asked_on_the_spot(node, parents):
+                yield node.lineno, "L24 a set that is kept or walked"
+        views = isinstance(node, ast.Call) and getattr(node.func, "attr", None) in ("items", "keys", "values")
+        if views or called_name(node) in ("zip", "enumerate", "reversed", "range"):
+            if not is_walked_on_the_spot(node, parents):
+                yield node.lineno, "L23 not walked on the spot"
+
+
 def methods_and_values(tree):
     """The names of all methods, and of all values that objects are given."""
     methods, values = set(), set()
@@ -201,6 +243,7 @@ class Language(unittest.TestCase):
             faults = list(faults_of_text(self.texts[module]))
             faults += faults_of_top(tree, self.defined)
             faults += faults_of_names(tree, methods)
+            faults += faults_of_walks(tree)
             self.assertEqual(faults, [], module)
 
     def test_methods_and_values_of_objects(self):
@@ -229,11 +272,13 @@ class Language(unittest.TestCase):
                      "def f(min):\n    return min\n", "def f(a):\n    return a.encode()\n", "a = b = 1\n", "print(1)\n",
                      "def f(a):\n    with a:\n        pass\n", "def f(a):\n    return a is a\n", "a = 1  # type\n",
                      "def _f():\n    pass\n", "def f(a):\n    return 2 ** a\n", "class A:\n    a = 1\n", "a = '\t'\n",
-                     "from slitview.errors import Missing\n", "def f():\n    return eval('1')\n"):
+                     "from slitview.errors import Missing\n", "def f():\n    return eval('1')\n",
+                     "def f(a):\n    b = set(a)\n    return b\n", "def f(a):\n    return [b for b in set(a)]\n",
+                     "def f(a):\n    b = a.items()\n    return b\n", "def f(a):\n    return range(a)\n"):
             tree = ast.parse(text)
             faults = list(faults_of_text(text)) + list(faults_of_top(tree, self.defined))
             if not faults:
-                faults = list(faults_of_names(tree, set()))
+                faults = list(faults_of_names(tree, set())) + list(faults_of_walks(tree))
             self.assertNotEqual(faults, [], text)
 
 
